@@ -1,0 +1,1 @@
+"""Strangersay: sayings about a crowd, found out by its own meetings."""

@@ -1,0 +1,34 @@
+"""What several tests ask about."""
+
+
+class Agreeing:
+    """An object that says it equals anything."""
+
+    def __eq__(self, other):
+        return True
+
+    __hash__ = None
+
+
+def nested(core, wrap, deep):
+    for _ in range(deep):
+        core = wrap(core)
+    return core
+
+
+def odd_things():
+    """Things of many kinds, none of which is a saying, counts, a state or a crowd of somebody."""
+    return [
+        None, True, False, 0, 1, -1, 10 ** 30 - 1, -(10 ** 30 - 1), "", "sum", "member", "note", b"", b"sum",
+        [], {}, set(), frozenset(), {"sum": 1}, object(), Agreeing(), len, int, ValueError, ValueError("x"),
+        range(3), iter(()), lambda thing: thing,
+        (None,), ("sum",), ("rest",), ("not",), ("and",), ("or",), ("member",), ("note",),
+        (Agreeing(), (1,), 0), (Agreeing(), Agreeing()), (Agreeing(), Agreeing(), Agreeing()),
+        (["sum"], (1,), 0), ({}, {}), ([], [], []), (1, 2, "3"), ((), (), ()), (set(), set(), set()),
+        nested((), lambda core: (core,), 29), nested([], lambda core: [core], 29),
+        nested({}, lambda core: {"a": core}, 29),
+        nested(("sum", (1,), 0), lambda core: ("not", core), 28),
+        nested(("sum", (1,), 0), lambda core: ("and", core, core), 28),
+        nested((), lambda core: ("member", core, core), 29),
+        nested((), lambda core: ("note", core), 29),
+    ]
