@@ -20,3 +20,12 @@ def left_by(simple, number):
     if simple[0] == "rest":
         return number % simple[3]
     return number
+
+
+def cut(simple, number):
+    """What a member can bear of the number, and what is left over."""
+    if simple[0] == "rest":
+        return left_by(simple, number), 0
+    size = size_of(simple)
+    kept = max(-size, min(size, number))
+    return kept, number - kept

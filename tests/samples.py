@@ -1,4 +1,27 @@
 """What several tests ask about."""
+import reprlib
+import unittest
+
+SUM = ("sum", (2, -3), 1)           # of size 3
+REST = ("rest", (1, -2), 1, 3)      # of size 2
+BOTH = ("and", SUM, ("not", REST))  # the rest rises ahead of the sum
+
+
+def member(*holds, sort=0):
+    return ("member", sort, holds)
+
+
+def note(*holds):
+    return ("note", holds)
+
+
+class AnswersTest(unittest.TestCase):
+    """Tests of what is asked of anything: the answer is a truth."""
+
+    def answers(self, truth, asked, *things):
+        for thing in things:
+            with self.subTest(reprlib.repr(thing)):
+                self.assertIs(asked(thing), truth)
 
 
 class Agreeing:

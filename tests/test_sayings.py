@@ -1,10 +1,9 @@
 import copy
 import itertools
-import reprlib
 import unittest
 
 from strangersay.sayings import is_saying, simples, sorts_of
-from tests.samples import Agreeing, nested, odd_things
+from tests.samples import Agreeing, AnswersTest, nested, odd_things
 
 SUM = ("sum", (2, -3), 1)
 REST = ("rest", (1, 2), 1, 3)
@@ -19,16 +18,12 @@ def joined(parts, word):
     return parts[0]
 
 
-class IsSayingTest(unittest.TestCase):
+class IsSayingTest(AnswersTest):
     def yes(self, *things):
-        for thing in things:
-            with self.subTest(reprlib.repr(thing)):
-                self.assertIs(is_saying(thing), True)
+        self.answers(True, is_saying, *things)
 
     def no(self, *things):
-        for thing in things:
-            with self.subTest(reprlib.repr(thing)):
-                self.assertIs(is_saying(thing), False)
+        self.answers(False, is_saying, *things)
 
     def test_ordinary(self):
         self.yes(SUM, REST, ("not", SUM), ("and", SUM, REST), ("or", REST, SUM), ("and", SUM, SUM),
