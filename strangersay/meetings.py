@@ -26,15 +26,19 @@ def note_met(simple, hold, noted):
     return (leads, kept, word), (False, over)
 
 
-def meet_member(saying, one, other):
-    pairs = [members_met(simple, mine, yours) for simple, mine, yours in zip(simples(saying), one[2], other[2])]
-    first = ("member", one[1], tuple(pair[0] for pair in pairs))
-    second = ("member", other[1], tuple(pair[1] for pair in pairs))
-    return first, second
+def holds_met(ones, mine, yours):
+    """The holds of two members behind their meeting, of each simple one."""
+    pairs = [members_met(simple, one, other) for simple, one, other in zip(ones, mine, yours)]
+    return tuple(pair[0] for pair in pairs), tuple(pair[1] for pair in pairs)
 
 
-def meet_note(saying, member, note):
-    pairs = [note_met(simple, hold, noted) for simple, hold, noted in zip(simples(saying), member[2], note[1])]
+def meet_member(ones, one, other):
+    mine, yours = holds_met(ones, one[2], other[2])
+    return ("member", one[1], mine), ("member", other[1], yours)
+
+
+def meet_note(ones, member, note):
+    pairs = [note_met(simple, hold, noted) for simple, hold, noted in zip(ones, member[2], note[1])]
     first = ("member", member[1], tuple(pair[0] for pair in pairs))
     holds = tuple(pair[1] for pair in pairs)
     if is_blank(holds):
@@ -42,22 +46,32 @@ def meet_note(saying, member, note):
     return first, ("note", holds)
 
 
-def meet(saying, one, other):
-    """Both states behind the meeting, the one told first; None for a note thrown away."""
+def meet_by(ones, one, other):
+    """What meet tells, with the simple ones of the saying at hand."""
     if is_note(one) and is_note(other):
         return one, other
     if is_note(one):
-        member, note = meet_note(saying, other, one)
+        member, note = meet_note(ones, other, one)
         return note, member
     if is_note(other):
-        return meet_note(saying, one, other)
-    return meet_member(saying, one, other)
+        return meet_note(ones, one, other)
+    return meet_member(ones, one, other)
+
+
+def meet(saying, one, other):
+    """Both states behind the meeting, the one told first; None for a note thrown away."""
+    return meet_by(simples(saying), one, other)
+
+
+def is_shift_by(ones, one, other):
+    """What is_shift tells, with the simple ones of the saying at hand."""
+    first, second = meet_by(ones, one, other)
+    return is_shifted(one, first) or is_shifted(other, second)
 
 
 def is_shift(saying, one, other):
     """Whether the meeting changes a number or who leads."""
-    first, second = meet(saying, one, other)
-    return is_shifted(one, first) or is_shifted(other, second)
+    return is_shift_by(simples(saying), one, other)
 
 
 def is_shifted(ahead, behind):

@@ -2,6 +2,9 @@
 import reprlib
 import unittest
 
+from strangersay.sizes import size_of
+from strangersay.states import is_state
+
 SUM = ("sum", (2, -3), 1)           # of size 3
 REST = ("rest", (1, -2), 1, 3)      # of size 2
 BOTH = ("and", SUM, ("not", REST))  # the rest rises ahead of the sum
@@ -13,6 +16,17 @@ def member(*holds, sort=0):
 
 def note(*holds):
     return ("note", holds)
+
+
+def all_states(simple):
+    """Every state of a saying that is one simple one."""
+    size = size_of(simple)
+    own = range(0, size + 1) if simple[0] == "rest" else range(-size, size + 1)
+    left = own if simple[0] == "rest" else range(-2 * size, 2 * size + 1)
+    found = [member((leads, number, word), sort=sort) for sort in range(len(simple[1])) for leads in (False, True)
+             for number in own for word in (False, True)]
+    found += [note((leads, number)) for leads in (False, True) for number in left]
+    return [state for state in found if is_state(simple, state)]
 
 
 class AnswersTest(unittest.TestCase):

@@ -3,20 +3,9 @@ import unittest
 
 from strangersay.meetings import is_shift, meet
 from strangersay.sayings import simples
-from strangersay.sizes import says, size_of
+from strangersay.sizes import says
 from strangersay.states import is_state
-from tests.samples import BOTH, REST, SUM, member, note
-
-
-def all_states(simple):
-    """Every state of a saying that is one simple one."""
-    size = size_of(simple)
-    own = range(0, size + 1) if simple[0] == "rest" else range(-size, size + 1)
-    left = own if simple[0] == "rest" else range(-2 * size, 2 * size + 1)
-    found = [member((leads, number, word), sort=sort) for sort in range(len(simple[1])) for leads in (False, True)
-             for number in own for word in (False, True)]
-    found += [note((leads, number)) for leads in (False, True) for number in left]
-    return [state for state in found if is_state(simple, state)]
+from tests.samples import BOTH, REST, SUM, all_states, member, note
 
 
 class MeetTest(unittest.TestCase):

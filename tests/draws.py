@@ -1,0 +1,79 @@
+"""Sayings, crowds and histories drawn for tests, the same ones each time."""
+from strangersay.calm import stirs
+from strangersay.comings import joined, left, turned
+from strangersay.crowds import counts_of
+from strangersay.rounds import done
+from strangersay.sayings import sorts_of
+
+
+def some_simple(chance, sorts):
+    worths = tuple(chance.choice((0, 1, -1, chance.randint(-9, 9))) for _ in range(sorts))
+    if chance.random() < 0.4:
+        divisor = chance.randint(2, 9)
+        return ("rest", worths, chance.randrange(divisor), divisor)
+    return ("sum", worths, chance.choice((0, 1, chance.randint(-20, 20))))
+
+
+def some_saying(chance, simple_ones=None, sorts=None):
+    """A saying of so many unlike simple ones, joined in some way."""
+    simple_ones = simple_ones or chance.randint(1, 3)
+    sorts = sorts or chance.randint(1, 6)
+    unlike = []
+    while len(unlike) < simple_ones:
+        simple = some_simple(chance, sorts)
+        if simple not in unlike:
+            unlike.append(simple)
+    saying = unlike[0]
+    for simple in unlike[1:]:
+        saying = (chance.choice(("and", "or")), saying, simple)
+    return ("not", saying) if chance.random() < 0.3 else saying
+
+
+def individuals(crowd):
+    return [state for state, many in crowd for _ in range(many)]
+
+
+def members_in(crowd):
+    return [state for state in individuals(crowd) if state[0] == "member"]
+
+
+def some_meeting(crowd, chance):
+    """A pair of two who are there."""
+    return tuple(chance.sample(individuals(crowd), 2))
+
+
+def stepped(saying, crowd, chance, most):
+    """The crowd behind one joining, leaving, turning or meeting."""
+    members = members_in(crowd)
+    deed = chance.choice(("join", "join", "leave", "turn", "meet", "meet", "meet", "meet"))
+    sort = chance.randrange(sorts_of(saying))
+    if deed == "join" and len(individuals(crowd)) < most:
+        return joined(saying, crowd, sort)
+    if deed == "leave" and members:
+        return left(saying, crowd, chance.choice(members))
+    if deed == "turn" and members and len(individuals(crowd)) < most:
+        return turned(saying, crowd, chance.choice(members), sort)
+    if len(individuals(crowd)) > 1:
+        return done(saying, crowd, ((1, (some_meeting(crowd, chance),)),))
+    return crowd
+
+
+def some_history(saying, chance, steps, most=8):
+    """The crowds of a history that begins with nobody."""
+    crowds = [()]
+    for _ in range(steps):
+        crowds.append(stepped(saying, crowds[-1], chance, most))
+    return crowds
+
+
+def calmed(saying, crowd, chance):
+    """A calm crowd that drawn meetings, each of which changes something, lead to."""
+    pairs = stirs(saying, crowd)
+    while pairs:
+        crowd = done(saying, crowd, ((1, (chance.choice(pairs),)),))
+        pairs = stirs(saying, crowd)
+    return crowd
+
+
+def has_members(saying, crowd):
+    return sum(counts_of(saying, crowd)) > 0
