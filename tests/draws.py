@@ -1,9 +1,14 @@
 """Sayings, crowds and histories drawn for tests, the same ones each time."""
+import random
+
 from strangersay.calm import stirs
 from strangersay.comings import joined, left, turned
 from strangersay.crowds import counts_of
+from strangersay.errors import TooMany
+from strangersay.making import holds_made
 from strangersay.rounds import done
 from strangersay.sayings import sorts_of
+from tests.samples import EVEN, REST, SIXTY, SOME, SUM
 
 
 def some_simple(chance, sorts):
@@ -27,6 +32,20 @@ def some_saying(chance, simple_ones=None, sorts=None):
     for simple in unlike[1:]:
         saying = (chance.choice(("and", "or")), saying, simple)
     return ("not", saying) if chance.random() < 0.3 else saying
+
+
+def small_sayings():
+    """Drawn sayings with at most sixty holds."""
+    chance = random.Random(81)
+    found = [EVEN, SOME, SUM, REST, ("not", SUM), ("or", EVEN, SOME), SIXTY]
+    while len(found) < 60:
+        saying = some_saying(chance, simple_ones=chance.choice((1, 1, 2)))
+        try:
+            holds_made(saying)
+        except TooMany:
+            continue
+        found.append(saying)
+    return found
 
 
 def individuals(crowd):
@@ -77,3 +96,37 @@ def calmed(saying, crowd, chance):
 
 def has_members(saying, crowd):
     return sum(counts_of(saying, crowd)) > 0
+
+
+def some_table(chance, states, rows, sorts=1):
+    """A table of so many states, and of at most so many rows."""
+    told = {}
+    for _ in range(rows):
+        p, q, p2, q2 = [chance.randrange(states) for _ in range(4)]
+        if (p, q) != (p2, q2):
+            told[(p, q)] = (p, q, p2, q2)
+    firsts = tuple(chance.randrange(states) for _ in range(sorts))
+    words = tuple(chance.random() < 0.5 for _ in range(states))
+    return ("table", states, firsts, words, tuple(sorted(told.values())))
+
+
+def drawn_layers(chance, table):
+    """Layers of the table, most often with weights that fall within each."""
+    order = list(range(len(table[4])))
+    chance.shuffle(order)
+    layers = []
+    while order:
+        size = chance.randint(1, len(order))
+        numbers, order = sorted(order[:size]), order[size:]
+        layers.append((tuple(numbers), tuple(chance.randint(0, 3) for _ in range(table[1]))))
+    return tuple(layers)
+
+
+def falling_table(chance, states, rows):
+    """A table each row of which makes the numbers of its states together less."""
+    told = {}
+    for _ in range(rows):
+        p, q, p2, q2 = [chance.randrange(states) for _ in range(4)]
+        if p2 + q2 < p + q:
+            told[(p, q)] = (p, q, p2, q2)
+    return ("table", states, (0,), (True,) * states, tuple(sorted(told.values())))

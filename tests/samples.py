@@ -8,6 +8,11 @@ from strangersay.states import is_state
 SUM = ("sum", (2, -3), 1)           # of size 3
 REST = ("rest", (1, -2), 1, 3)      # of size 2
 BOTH = ("and", SUM, ("not", REST))  # the rest rises ahead of the sum
+EVEN = ("rest", (1,), 0, 2)
+SOME = ("sum", (1,), 1)
+# of sixty holds, and of one more
+SIXTY = ("and", ("sum", (1, 0), 3), ("sum", (0, -1), -3))
+SIXTY_ONE = ("and", ("sum", (0, -1), -3), ("sum", (1, -2), -1))
 
 
 def member(*holds, sort=0):

@@ -10,14 +10,8 @@ from strangersay.rounds import done
 from strangersay.sayings import is_saying, sorts_of
 from strangersay.states import fresh, is_state, word_of
 from strangersay.tables import first_crowd, is_table, table_done, table_stirs
-from tests.draws import individuals, some_saying
-from tests.samples import BOTH, REST, SUM
-
-# of sixty holds, and of one more
-SIXTY = ("and", ("sum", (1, 0), 3), ("sum", (0, -1), -3))
-SIXTY_ONE = ("and", ("sum", (0, -1), -3), ("sum", (1, -2), -1))
-EVEN = ("rest", (1,), 0, 2)
-SOME = ("sum", (1,), 1)
+from tests.draws import individuals, small_sayings, some_saying
+from tests.samples import BOTH, EVEN, REST, SIXTY, SIXTY_ONE, SOME
 
 
 def all_holds(saying):
@@ -29,20 +23,6 @@ def all_holds(saying):
         if behind <= found:
             return tuple(sorted(found))
         found |= behind
-
-
-def small_sayings():
-    """Drawn sayings with at most sixty holds."""
-    chance = random.Random(81)
-    found = [EVEN, SOME, SUM, REST, ("not", SUM), ("or", EVEN, SOME), SIXTY]
-    while len(found) < 60:
-        saying = some_saying(chance, simple_ones=chance.choice((1, 1, 2)))
-        try:
-            holds_made(saying)
-        except TooMany:
-            continue
-        found.append(saying)
-    return found
 
 
 class HoldsMadeTest(unittest.TestCase):
