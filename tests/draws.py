@@ -130,3 +130,23 @@ def falling_table(chance, states, rows):
         if p2 + q2 < p + q:
             told[(p, q)] = (p, q, p2, q2)
     return ("table", states, (0,), (True,) * states, tuple(sorted(told.values())))
+
+
+def house_step(house, chance, most=8):
+    """Does one drawn deed in the house; tells what it tells."""
+    there = house.crowd()
+    everybody, members = individuals(there), members_in(there)
+    sort = chance.randrange(sorts_of(house.saying))
+    deed = chance.choice(("come", "come", "leave", "turn", "meet", "meet", "meet", "do"))
+    if deed == "leave" and members:
+        return house.leave(chance.choice(members))
+    if deed == "turn" and members and len(everybody) < most:
+        return house.turn(chance.choice(members), sort)
+    if deed == "meet" and len(everybody) > 1:
+        return house.meet(*some_meeting(there, chance))
+    if deed == "do" and len(everybody) > 3:
+        first, second, third, fourth = chance.sample(everybody, 4)
+        return house.do(((1, ((first, second), (third, fourth))),))
+    if len(everybody) < most:
+        return house.come(sort, many=chance.randint(1, 2))
+    return house.do(())

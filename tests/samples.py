@@ -74,3 +74,9 @@ def odd_things():
         nested((), lambda core: ("member", core, core), 29),
         nested((), lambda core: ("note", core), 29),
     ]
+
+
+def seen_of(house):
+    """All that can be asked of a house."""
+    return (house.crowd(), house.counts(), house.words(), house.is_true(), house.measure(), house.is_calm(),
+            house.deeds(), house.spent(), house.trials())

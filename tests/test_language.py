@@ -4,6 +4,7 @@ import builtins
 import pathlib
 import re
 import unittest
+from collections import Counter
 
 PACKAGE = pathlib.Path(__file__).resolve().parent.parent / "strangersay"
 FILES = sorted(PACKAGE.glob("*.py"))
@@ -15,6 +16,10 @@ LET_BUILTINS = set(
     " ord repr any all divmod iter next super property staticmethod classmethod Exception ValueError TypeError KeyError"
     " IndexError LookupError ZeroDivisionError ArithmeticError OverflowError RuntimeError NotImplementedError"
     " AttributeError StopIteration NotImplemented".split())
+LET_METHODS = set(
+    "append clear copy count endswith extend find get index insert isalnum isalpha isdigit islower isspace isupper items"
+    " join keys ljust lower lstrip partition pop remove replace reverse rfind rjust rpartition rsplit rstrip setdefault"
+    " split splitlines startswith strip update upper values zfill bit_length __init__".split())
 BUILTINS = set(dir(builtins))
 
 
@@ -26,6 +31,15 @@ def bound_names(tree):
             yield node.arg
         elif isinstance(node, (ast.FunctionDef, ast.ClassDef)):
             yield node.name
+
+
+def own_methods(tree):
+    return [part for node in ast.walk(tree) if isinstance(node, ast.ClassDef) for part in node.body
+            if isinstance(part, ast.FunctionDef)]
+
+
+def own_attributes(tree):
+    return [node.attr for node in ast.walk(tree) if isinstance(node, ast.Attribute) and isinstance(node.ctx, ast.Store)]
 
 
 class LanguageTest(unittest.TestCase):
@@ -87,7 +101,32 @@ class LanguageTest(unittest.TestCase):
             imported = [alias.asname or alias.name for node in tree.body if isinstance(node, ast.ImportFrom)
                         for alias in node.names]
             self.assertEqual(len(imported), len(set(imported)))
-            self.assertEqual(set(imported) & set(bound_names(tree)), set())
+            # A method is reached by its object alone, so it may be called as what it asks.
+            bound = Counter(bound_names(tree)) - Counter(method.name for method in own_methods(tree))
+            self.assertEqual(set(imported) & set(bound), set())
+
+    def test_no_name_is_a_method_and_an_attribute(self):
+        methods, attributes = set(), set()
+        for _, tree in self.trees():
+            names = [method.name for method in own_methods(tree)]
+            methods |= set(names)
+            attributes |= set(own_attributes(tree))
+        self.assertTrue(methods and attributes)
+        self.assertEqual(methods & attributes, set())
+
+    def test_names_of_methods_are_not_those_of_builtin_values(self):
+        taken = {name for kind in (str, int, list, dict, set, bytes, tuple) for name in dir(kind)}
+        for _, tree in self.trees():
+            for method in own_methods(tree):
+                if method.name != "__init__":
+                    self.assertNotIn(method.name, taken)
+
+    def test_only_let_methods_are_called(self):
+        own = {method.name for path in FILES for method in own_methods(ast.parse(path.read_text("ascii")))}
+        for _, tree in self.trees():
+            for node in ast.walk(tree):
+                if isinstance(node, ast.Call) and isinstance(node.func, ast.Attribute):
+                    self.assertIn(node.func.attr, LET_METHODS | own)
 
 
 if __name__ == "__main__":
